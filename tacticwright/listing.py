@@ -37,8 +37,8 @@ def listed(lore, sizes, K, depth, known):
         found = list(listed(lore, sizes, K, depth - 1, known))
         for C, kinds in forms:
             lists = [listed(lore, sizes, kind, depth - 1, known) for kind in kinds]
-            # A form without parts is 1 deep, as one whose parts are all 0 deep.
-            parts = tuples_of(lists, depth - 1, len(kinds) == 0 and depth == 1, MOST_VALUES - len(found))
+            # All that can be made to depth 1 is just 1 deep, also of no parts at all.
+            parts = tuples_of(lists, depth - 1, depth == 1, MOST_VALUES - len(found))
             found.extend([((C, part), depth) for part in parts])
     known[(K, depth)] = found
     return found

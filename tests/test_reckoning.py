@@ -140,6 +140,14 @@ class TestTurns(unittest.TestCase):
         t = call("first", form("Cons", call("spot"), NIL), call("first", NIL, call("spot")))
         self.assertEqual(turns(LORE, t)[1], call("first", form("Cons", call("spot"), NIL), call("spot")))
 
+    def test_steps_within_steps_within_steps(self):
+        inner = call("twice", call("twice", call("twice", suc(ZERO))))
+        self.assertEqual(turns(LORE, inner)[1], call("twice", call("twice", call("add", suc(ZERO), suc(ZERO)))))
+        for t in (inner, call("twice", inner), call("add", inner, inner), call("add", call("twice", free("n")), inner),
+                  call("first", form("Cons", call("first", NIL, call("spot")), NIL), call("first", NIL, call("first", NIL, call("spot")))),
+                  form("Pair", call("first", NIL, call("first", NIL, call("first", NIL, free("i")))), inner)):
+            self.assertEqual(turns(LORE, t), slow.turns(ROWS, t))
+
     def test_none_to_go(self):
         for t in (free("n"), ZERO, bound(0), call("spot"), call("add", free("n"), ZERO)):
             self.assertEqual(turns(LORE, t), [t])

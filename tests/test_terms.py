@@ -247,6 +247,10 @@ class TestArgsPut(unittest.TestCase):
         self.assertEqual(args_put(t, (ZERO, ZERO)), t)
         self.assertEqual(args_put(free("x"), (ZERO,)), free("x"))
 
+    def test_bounds_beyond_the_args_stay(self):
+        self.assertEqual(args_put(form("Pair", bound(0), bound(1)), (ZERO,)), form("Pair", ZERO, bound(1)))
+        self.assertEqual(args_put(bound(0), ()), bound(0))
+
     def test_seven_bounds(self):
         args = tuple(free(x) for x in "abcdefg")
         t = call("f", form("Four", bound(6), bound(5), bound(4), bound(3)), bound(2), bound(1), bound(0))
