@@ -1,8 +1,7 @@
 """The rows of a book: which of them are right behind the earlier ones."""
 
-from tacticwright.errors import NoTerm
-from tacticwright.scopes import kind_of
-from tacticwright.scopes import look
+from tacticwright.scopes import is_of_kind
+from tacticwright.scopes import is_right
 from tacticwright.terms import is_args
 from tacticwright.terms import is_form_name
 from tacticwright.terms import is_name
@@ -88,16 +87,8 @@ def head_is_right(lore, thing):
     word = word_of(thing)
     if word not in ROW_LENGTHS or len(thing) != ROW_LENGTHS[word] or not is_name(thing[1]):
         return False
-    is_right = HEADS[word]
-    return is_right(lore, thing)
-
-
-def is_of_kind(lore, inner, t, K):
-    """Whether t, of anything, is a term of kind K without free, its bounds being of the kinds of inner."""
-    try:
-        return kind_of(lore, {}, inner, t) == K
-    except NoTerm:
-        return False
+    is_right_head = HEADS[word]
+    return is_right_head(lore, thing)
 
 
 def calls_of(t, f):
@@ -120,25 +111,16 @@ def goes_inward(call, kinds, K):
 
 def short_inside_is_right(lore, row):
     word, f, kinds, K, t = row
-    return is_of_kind(lore, list(kinds), t, K) and len(calls_of(t, f)) == 0
+    return is_of_kind(lore, {}, list(kinds), t, K) and len(calls_of(t, f)) == 0
 
 
 def rule_inside_is_right(lore, row):
     word, f, kinds, K, terms = row
     for pair, t in zip(lore.forms(kinds[0]), terms):
-        if not is_of_kind(lore, list(pair[1]) + list(kinds[1:]), t, K):
+        if not is_of_kind(lore, {}, list(pair[1]) + list(kinds[1:]), t, K):
             return False
         if not all([goes_inward(call, pair[1], kinds[0]) for call in calls_of(t, f)]):
             return False
-    return True
-
-
-def statement_is_right(lore, A):
-    """Whether A, of anything, is a right whole statement without free."""
-    try:
-        look(lore, {}, [], A)
-    except NoTerm:
-        return False
     return True
 
 
@@ -149,5 +131,5 @@ def inside_is_right(lore, row):
     if row[0] == "rule":
         return rule_inside_is_right(lore, row)
     if row[0] == "taken" or row[0] == "reasoned":
-        return statement_is_right(lore, row[2])
+        return is_right(lore, {}, [], row[2])
     return True

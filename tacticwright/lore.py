@@ -25,12 +25,16 @@ class Lore:
         self.fact_rows = {}
         self.loose_facts = {}
         for place, row in enumerate(rows):
-            if not head_is_right(self, row):
+            if not head_is_right(self, row) or not self.is_borne_out(row):
                 raise NoBook(place)
             # A rule calls itself, so its row stands here ahead of the look at its terms.
             self.keep(row)
             if not inside_is_right(self, row):
                 raise NoBook(place)
+
+    def is_borne_out(self, row):
+        """Whether a row with a right head, which isn't kept yet, has a right reason; lore looks at none."""
+        return True
 
     def keep(self, row):
         """Puts a row with a right head behind the others."""

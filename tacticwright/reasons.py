@@ -79,12 +79,15 @@ def sorted_parts(p):
     return list(zip(REASON_PARTS[p[0]], p[1:]))
 
 
+def has_reason_word(thing):
+    """Whether thing, of anything, is a tuple of a reason's word and as many things as stand behind it."""
+    word = word_of(thing)
+    return word in REASON_PARTS and len(thing) == len(REASON_PARTS[word]) + 1
+
+
 def is_reason_node(thing):
     """Whether thing, of anything, is a reason as far as it can be seen without a look at the reasons within."""
-    word = word_of(thing)
-    if word not in REASON_PARTS or len(thing) != len(REASON_PARTS[word]) + 1:
-        return False
-    return all([is_part(sort, part) for sort, part in sorted_parts(thing)])
+    return has_reason_word(thing) and all([is_part(sort, part) for sort, part in sorted_parts(thing)])
 
 
 def reasons_in(p):
@@ -114,6 +117,19 @@ def with_reasons(p, inner):
     return tuple(made)
 
 
+def facts_in(p):
+    """The list of the names of the facts that a reason puts behind for those straight within it, from the left."""
+    found = []
+    for sort, part in sorted_parts(p):
+        if sort == "h" and p[0] != "fact":
+            found.append(part)
+        if sort == "induct rows":
+            found.extend([h for row in part for h in row[1]])
+        if sort == "forms rows":
+            found.extend([row[1] for row in part])
+    return found
+
+
 def said_in(p):
     """The list of the terms, statements and bodies that stand straight in a reason, from the left."""
     return [part for sort, part in sorted_parts(p) if sort == "term" or sort in STATEMENT_PARTS]
@@ -130,15 +146,38 @@ def is_reason(thing):
     return True
 
 
-def reason_nodes(p):
-    """How many nodes a reason has: its terms, statements and reasons, each as often as it stands."""
-    many = 0
+def reasons_of(p):
+    """The list of all reasons that stand in a reason, itself first."""
+    found = []
     pending = [p]
     while pending:
         part = pending.pop()
-        many += 1 + sum([nodes(said) for said in said_in(part)])
-        pending.extend(reasons_in(part))
-    return many
+        found.append(part)
+        pending.extend(reasons_in(part)[::-1])
+    return found
+
+
+def holes_filled(p, fillings):
+    """A reason with the n-th of the fillings, a list of reasons, in the place of each hole n."""
+    pending = [(p, False)]
+    made = []
+    while pending:
+        part, ready = pending.pop()
+        inner = reasons_in(part)
+        if part[0] == "hole":
+            made.append(fillings[part[1]])
+        elif ready:
+            at = len(made) - len(inner)
+            made[at:] = [with_reasons(part, made[at:])]
+        else:
+            pending.append((part, True))
+            pending.extend([(one, False) for one in reversed(inner)])
+    return made[0]
+
+
+def reason_nodes(p):
+    """How many nodes a reason has: its terms, statements and reasons, each as often as it stands."""
+    return sum([1 + sum([nodes(said) for said in said_in(part)]) for part in reasons_of(p)])
 
 
 def reason_depth(p):

@@ -69,3 +69,20 @@ def look(lore, things, inner, A):
         look_at(lore, things, around, part)
         ahead = [part[1]] if part[0] in BIND_WORDS else []
         pending.extend([(one, ahead + around) for one in statements_in(part)])
+
+
+def is_of_kind(lore, things, inner, t, K):
+    """Whether t, of anything, is a right term of kind K."""
+    try:
+        return kind_of(lore, things, inner, t) == K
+    except NoTerm:
+        return False
+
+
+def is_right(lore, things, inner, A):
+    """Whether A, of anything, is a right statement."""
+    try:
+        look(lore, things, inner, A)
+    except NoTerm:
+        return False
+    return True

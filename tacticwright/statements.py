@@ -52,6 +52,22 @@ def is_whole(thing):
     return folded(thing, tell)
 
 
+def is_bindless(A):
+    """Whether no all and no some stands in a statement."""
+    pending = [A]
+    while pending:
+        part = pending.pop()
+        if part[0] in BIND_WORDS:
+            return False
+        pending.extend(statements_in(part))
+    return True
+
+
+def negated(A):
+    """The statement not A."""
+    return ("if", A, ("false",))
+
+
 def opened(A, t):
     """The body A with the whole term t in the place of its one bound."""
     def put(leaf, depth):

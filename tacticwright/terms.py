@@ -170,6 +170,12 @@ def free_in(thing):
     return sorted(names)
 
 
+def has_free(thing, names):
+    """Whether one of these names is free in a term or statement."""
+    found = free_in(thing)
+    return any([name in found for name in names])
+
+
 def at_place(t, place):
     """The term at a place of t, None where there is no such place."""
     part = t

@@ -12,6 +12,10 @@ INTERFACE = {
     "reckoning": ["steps(lore, t)", "stepped(lore, t, place)", "turns(lore, t)", "reckoned(lore, thing)"],
     "worlds": ["checked(lore, world)", "values(lore, world, K, depth)", "value(lore, world, env, t)", "truth(lore, world, depth, env, A)",
                "good(lore, world, depth)", "refutes(lore, world, depth, A)"],
+    "looker": ["looked(lore, context, reason, goals=None)"],
+    "goals": ["is_goal(lore, thing)"],
+    "rewriting": ["walk(A, t, u)"],
+    "tactics": ["met(lore, goal, tactic)"],
 }
 LORE = ["rows(self)", "forms(self, K)", "has_kind(self, K)", "form(self, C)", "function(self, f)", "word(self, P)", "fact(self, h)"]
 
@@ -25,12 +29,15 @@ class TestInterface(unittest.TestCase):
                 name = row.split("(")[0]
                 self.assertEqual(name + str(inspect.signature(getattr(module, name))), row)
 
-    def test_lore(self):
+    def test_lore_and_book(self):
         lore = importlib.import_module("tacticwright.lore").Lore
-        self.assertEqual(str(inspect.signature(lore)), "(rows)")
-        for row in LORE:
-            name = row.split("(")[0]
-            self.assertEqual(name + str(inspect.signature(getattr(lore, name))), row)
+        book = importlib.import_module("tacticwright.books").Book
+        self.assertEqual(book.__bases__, (lore,))
+        for kind in (lore, book):
+            self.assertEqual(str(inspect.signature(kind)), "(rows)")
+            for row in LORE:
+                name = row.split("(")[0]
+                self.assertEqual(name + str(inspect.signature(getattr(kind, name))), row)
 
     def test_errors(self):
         errors = importlib.import_module("tacticwright.errors")

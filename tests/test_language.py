@@ -222,8 +222,9 @@ class TestLanguage(unittest.TestCase):
         for path, tree in self.trees():
             for node in ast.walk(tree):
                 if isinstance(node, ast.ExceptHandler):
-                    self.assertIsInstance(node.type, ast.Name, path)
-                    self.assertRegex(node.type.id, "^(No|Too|Stuck|KeyError)", path)
+                    for kind in node.type.elts if isinstance(node.type, ast.Tuple) else [node.type]:
+                        self.assertIsInstance(kind, ast.Name, path)
+                        self.assertRegex(kind.id, "^(No|Too|Stuck|KeyError)", path)
                 if isinstance(node, ast.Raise) and node.exc is not None:
                     self.assertRegex(called(node.exc) or "", "^(No|Too|Stuck)", (path, node.lineno))
 
@@ -266,6 +267,7 @@ class TestLanguage(unittest.TestCase):
                 self.assertIn(node.id, own, (path, node.lineno))
 
     def test_calls_of_pythons_own(self):
+        own = {node.name for path, tree in self.trees() for node in tree.body if isinstance(node, ast.ClassDef)}
         for path, tree in self.trees():
             for node in ast.walk(tree):
                 name = called(node)
@@ -275,7 +277,7 @@ class TestLanguage(unittest.TestCase):
                         self.assertIn(keyword.arg, KEYWORDS.get(name, ()), where)
                 if name == "isinstance":
                     kinds = node.args[1].elts if isinstance(node.args[1], ast.Tuple) else [node.args[1]]
-                    self.assertLessEqual({kind.id for kind in kinds}, CLASSES, where)
+                    self.assertLessEqual({kind.id for kind in kinds}, CLASSES | own, where)
                 if isinstance(node, ast.Call) and isinstance(node.func, ast.Attribute):
                     self.assertEqual(node.keywords, [], where)
                 if isinstance(node, ast.Name) and node.id in BUILTINS - CLASSES and not node.id.endswith("Error"):
