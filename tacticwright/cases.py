@@ -34,7 +34,6 @@ def by_induction(lore, goal, tactic):
     context, G = goal
     word, x, rows = tactic
     K = things_of(context).get(x)
-    need(K is not None)
     forms = needed_forms(lore, K)
     need(len(rows) == len(forms))
     A = closed(G, x)

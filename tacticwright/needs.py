@@ -49,7 +49,7 @@ def needed_kind(lore, goal, t):
 
 
 def needed_forms(lore, K):
-    """The forms of a made kind; fails where it is an open one."""
+    """The forms of a made kind; fails where K is an open one, or None."""
     forms = lore.forms(K)
     need(forms is not None)
     return forms

@@ -1,13 +1,13 @@
 """Rewriting: one term for another in a statement, told by steps of one place each, and the tactic turn.
 
-A way is a tuple of numbers, as a place is, but from a statement on: by its parts, and on by the args of its terms.
+A way is a place in a statement: by the numbers of its parts, and on by those of the args of its terms.
 """
 
 from tacticwright.needs import need
 from tacticwright.needs import opened_fact
 from tacticwright.terms import BIND_WORDS
 from tacticwright.terms import parts_of
-from tacticwright.terms import with_parts
+from tacticwright.terms import with_place
 
 
 def ways_to(A, t):
@@ -25,27 +25,11 @@ def ways_to(A, t):
     return found
 
 
-def put_at(A, way, u):
-    """The statement A with the term u at the end of a way that is there."""
-    around = []
-    part = A
-    for k in way:
-        around.append(part)
-        part = parts_of(part)[k]
-    made = u
-    for k in way[::-1]:
-        part = around.pop()
-        parts = list(parts_of(part))
-        parts[k] = made
-        made = with_parts(part, parts)
-    return made
-
-
 def walk(A, t, u):
     """The list of the statements from A on till u stands wherever t stood, one place changed from each to the next."""
     told = [A]
     for way, depth in ways_to(A, t):
-        told.append(put_at(told[-1], way, u))
+        told.append(with_place(told[-1], way, u))
     return told
 
 
@@ -53,7 +37,7 @@ def marked(A, t):
     """The body that is A where it is opened with t, its bound standing wherever t stands in A."""
     made = A
     for way, depth in ways_to(A, t):
-        made = put_at(made, way, ("bound", depth))
+        made = with_place(made, way, ("bound", depth))
     return made
 
 

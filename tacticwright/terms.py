@@ -188,17 +188,18 @@ def at_place(t, place):
 
 
 def with_place(t, place, u):
-    """The term t with u at a place that is there."""
+    """The term t with u at a place that is there; of a statement, too, a place going by its parts."""
     around = []
     part = t
     for k in place:
         around.append(part)
-        part = part[2][k]
+        part = parts_of(part)[k]
     made = u
-    for depth in reversed(range(len(place))):
-        word, name, args = around[depth]
-        k = place[depth]
-        made = (word, name, args[:k] + (made,) + args[k + 1:])
+    for k in place[::-1]:
+        part = around.pop()
+        parts = list(parts_of(part))
+        parts[k] = made
+        made = with_parts(part, parts)
     return made
 
 

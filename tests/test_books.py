@@ -89,6 +89,15 @@ class TestRefused(unittest.TestCase):
             if not isinstance(thing, list):
                 self.assertIsNone(place_of(thing), repr(thing))
 
+    def test_things_that_cannot_be_compared(self):
+        class Odd:
+            def __eq__(self, other):
+                raise AssertionError("compared")
+        self.assertEqual(place_of(BASE + [("reasoned", "a", Odd(), IDLE)]), 4)
+        self.assertEqual(place_of(BASE + [("reasoned", "a", ("if", RAIN, Odd()), IDLE)]), 4)
+        self.assertEqual(place_of(BASE + [("reasoned", "a", DRY, Odd())]), 4)
+        self.assertEqual(place_of(BASE + [("reasoned", "a", DRY, ("into", "g", Odd(), ("fact", "g")))]), 4)
+
     def test_a_fact_of_a_later_row_or_of_its_own(self):
         wet = ("taken", "wet", RAIN)
         self.assertEqual(place_of(BASE + [("reasoned", "a", RAIN, ("fact", "wet")), wet]), 4)

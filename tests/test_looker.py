@@ -89,8 +89,10 @@ class TestBorneOut(LookCase):
         self.bears(("into", "b", RAIN, ("fact", "b")), ("if", RAIN, RAIN))
         self.bears(("into", "h", RAIN, ("into", "h", FALSE, ("fact", "h"))), ("if", RAIN, ("if", FALSE, FALSE)))
 
-    def test_a_fact_takes_out_no_thing(self):
+    def test_a_fact_takes_out_no_thing_and_no_fact_with_its_name_as_a_free(self):
         self.bears(("into", "x", RAIN, ("plain", X)), ("if", RAIN, same(X, X)))
+        self.bears(("into", "x", RAIN, ("fact", "b")), ("if", RAIN, even(X)))
+        self.bears(("into", "x", RAIN, ("into", "x", FALSE, ("fact", "b"))), ("if", RAIN, ("if", FALSE, even(X))))
 
     def test_a_thing_takes_out_no_fact_of_its_name(self):
         self.bears(("each", "z", "item", ("both", ("plain", free("z")), ("fact", "z"))),
@@ -302,7 +304,8 @@ class TestFaults(LookCase):
             self.fault((), ("plain", t))
 
     def test_swap(self):
-        self.fault((), ("swap", ("fact", "b"), even(bound(0)), ("fact", "b")))
+        for h in ("b", "c", "d", "e", "f", "u", "w"):
+            self.fault((), ("swap", ("fact", h), even(bound(0)), ("fact", "b")))
         self.fault((), ("swap", ("fact", "a"), even(bound(0)), ("fact", "z")))
         self.fault((), ("swap", ("fact", "a"), even(bound(1)), ("fact", "b")))
         self.fault((), ("swap", ("fact", "a"), atom("near", bound(0), I), ("fact", "b")))
@@ -325,7 +328,7 @@ class TestFaults(LookCase):
         self.fault((), ("inner", ("fact", "p"), True))
         self.fault((), ("inner", ("plain", ZERO), 0))
         self.fault((), ("inner", ("plain", call("add", X, Y)), 0))
-        for t, u in ((X, suc(X)), (suc(X), X)):
+        for t, u in ((X, suc(X)), (suc(X), X), (form("Left", X), form("Right", X))):
             self.fault((), ("inner", ("hole", 0), 0), goals=[(CONTEXT, same(t, u))])
 
     def test_induct(self):
@@ -357,6 +360,7 @@ class TestFaults(LookCase):
             ("induct", "nat", body, (zero, (("m",), ("h",)))),
             ("induct", "nat", same(bound(0), M), (zero, step)),
             ("induct", "nat", ("if", even(X), body), (zero, (("x",), ("h",), TRUTH))),
+            ("induct", "nat", same(X, X), (((), (), ("plain", X)), (("x",), ("h",), ("plain", X)))),
             ("induct", "nat", same(bound(0), ZERO), (zero, step)),
             ("induct", "nat", body, (((), (), ("plain", suc(ZERO))), step)),
         ]

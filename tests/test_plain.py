@@ -101,6 +101,7 @@ class TestUse(MeetCase):
                    ("use", "evens", (RAIN,)), ("use", "evens", (call("none"),)), ("use", "evens", ("y",)))
         self.fails(same(X, Y), ("use", "sames", (X,)), ("use", "sames", (Y, X)), ("use", "sames", (X, Y, Y)), ("use", "sames", ()))
         self.fails(even(X), ("use", "w", (X,)))
+        self.fails(same(X, X), ("use", "w", (X,)))
 
 
 class TestHave(MeetCase):
@@ -292,6 +293,10 @@ class TestUnlikeAndInner(MeetCase):
         for name in OLD:
             self.fails(NEAR, ("inner", "k", (name,)), ("inner", "p", ("h", name)))
         self.fails(NEAR, ("inner", "p", ("h", "h")))
+        lore = Lore(BOOK_ROWS + [("kind", "side", (("Left", ("nat",)), ("Right", ("nat",))))])
+        context = behind(fact("h", same(form("Left", X), form("Right", X))))
+        self.fails(NEAR, ("inner", "h", ("g",)), context=context, lore=lore)
+        self.meets(NEAR, ("unlike", "h"), context=context, lore=lore)
         self.fails(NEAR, ("inner", "h", ("g",)), context=behind(fact("h", same(suc(X), call("twice", number(40))))))
 
 

@@ -173,10 +173,10 @@ class TestTurn(MeetCase):
         for ts in ((I,), (M,), (bound(0),), (X, X), [Y], Y, None, ("y",), (RAIN,), (None,), ()):
             self.fails(even(X), ("turn", "u", ts, "back"))
         for way in ("On", "", "forth", None, True, ("on",), "o", "onback"):
-            self.fails(even(X), ("turn", "a", (), way))
+            self.fails(same(X, Y), ("turn", "a", (), way))
         self.fails(even(X), ("turn", "a", ()), ("turn", "a", (), "on", "on"), ["turn", "a", (), "on"], ("turn",))
         for thing in odd_things():
-            self.fails(even(X), ("turn", thing, (), "on"), ("turn", "a", (), thing))
+            self.fails(same(X, Y), ("turn", thing, (), "on"), ("turn", "a", (), thing))
             if thing != ():
                 self.fails(even(X), ("turn", "a", thing, "on"))
 

@@ -176,6 +176,8 @@ class TestBounds(MeetCase):
         A = ("and", even(sized(900)), even(sized(1096)))
         self.assertEqual(nodes(("if", A, FALSE)), 2001)
         self.fails(RAIN, ("sure", A, "h", "g"))
+        self.fails(EVENS, ("sure", both(999), "h", "g"), context=())
+        self.meets(EVENS, ("sure", both(998), "h", "g"), ((fact("h", both(998)),), EVENS), ((fact("g", no(both(998))),), EVENS), context=())
         A = ("and", even(sized(900)), even(sized(1095)))
         self.meets(RAIN, ("sure", A, "h", "g"), (behind(fact("h", A)), RAIN), (behind(fact("g", no(A))), RAIN))
 
