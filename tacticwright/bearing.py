@@ -14,6 +14,7 @@ from tacticwright.scopes import look
 from tacticwright.statements import closed
 from tacticwright.statements import negated
 from tacticwright.statements import opened
+from tacticwright.terms import alike
 from tacticwright.terms import has_free
 
 
@@ -84,7 +85,7 @@ def want_give(at, k):
     if k == 0:
         want(at.told[0][0] == "if")
     else:
-        want(at.told[1] == at.told[0][1])
+        want(alike(at.told[1], at.told[0][1]))
 
 
 def want_at(at, k):
@@ -99,11 +100,11 @@ def want_cases(at, k):
     if k == 0:
         want(at.told[0][0] == "or")
     if k == 2:
-        want(at.told[2] == at.told[1])
+        want(alike(at.told[2], at.told[1]))
 
 
 def want_with(at, k):
-    want(at.told[0] == opened(at.p[2], at.p[1]))
+    want(alike(at.told[0], opened(at.p[2], at.p[1])))
 
 
 def want_take(at, k):
@@ -121,7 +122,7 @@ def want_swap(at, k):
         want(at.told[0][0] == "same")
         look(at.lore, at.things, [kind_of(at.lore, at.things, [], at.told[0][1])], at.p[2])
     else:
-        want(at.told[1] == opened(at.p[2], at.told[0][1]))
+        want(alike(at.told[1], opened(at.p[2], at.told[0][1])))
 
 
 def are_forms(told):
@@ -140,16 +141,16 @@ def want_inner(at, k):
 
 def want_induct(at, k):
     word, K, A, rows = at.p
-    want(at.told[k] == opened(A, form_of(at.lore.forms(K)[k][0], rows[k][0])))
+    want(alike(at.told[k], opened(A, form_of(at.lore.forms(K)[k][0], rows[k][0]))))
 
 
 def want_forms(at, k):
     want(not has_free(at.told[k], at.p[2][k][0]))
-    want(at.told[k] == at.told[0])
+    want(alike(at.told[k], at.told[0]))
 
 
 def want_reckon(at, k):
-    want(reckoned(at.lore, at.told[0]) == reckoned(at.lore, at.p[1]))
+    want(alike(reckoned(at.lore, at.told[0]), reckoned(at.lore, at.p[1])))
 
 
 WANTS = {

@@ -7,6 +7,7 @@ from tacticwright.lore import Lore
 from tacticwright.reasons import facts_in
 from tacticwright.reasons import reasons_of
 from tacticwright.scopes import is_right
+from tacticwright.terms import alike
 
 
 class Book(Lore):
@@ -32,4 +33,4 @@ class Book(Lore):
             for h in facts_in(p):
                 self.facts_behind[h] = True
         # What stands in the row may be of any kind, so it is looked at ahead of the comparison.
-        return is_right(self, {}, [], row[2]) and told == row[2]
+        return is_right(self, {}, [], row[2]) and alike(told, row[2])

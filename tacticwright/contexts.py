@@ -1,5 +1,6 @@
 """Contexts: their things and facts, and entries put behind."""
 
+from tacticwright.terms import alike
 from tacticwright.terms import free_in
 
 
@@ -25,6 +26,19 @@ def known(lore, context, h):
             return told
     row = lore.fact(h)
     return None if row is None else row[2]
+
+
+def are_alike_entries(one, other):
+    if one[:2] != other[:2]:
+        return False
+    return alike(one[2], other[2]) if one[0] == "fact" else one[2] == other[2]
+
+
+def are_alike_contexts(one, other):
+    """Whether two contexts are the same, entry by entry."""
+    if len(one) != len(other):
+        return False
+    return all([are_alike_entries(entry, twin) for entry, twin in zip(one, other)])
 
 
 def put_one(context, entry):

@@ -3,6 +3,7 @@
 What is wrong is refused with NoReason or NoTerm, without a place: the looker knows where it stands.
 """
 
+from tacticwright.contexts import are_alike_contexts
 from tacticwright.contexts import are_unlike
 from tacticwright.contexts import known
 from tacticwright.errors import NoReason
@@ -78,7 +79,7 @@ def own_sure(at):
 def own_hole(at):
     n = at.p[1]
     want(at.aims is not None and n < len(at.aims))
-    want(at.context == at.aims[n][0])
+    want(are_alike_contexts(at.context, at.aims[n][0]))
 
 
 OWN = {

@@ -12,6 +12,7 @@ from tacticwright.needs import with_entries
 from tacticwright.needs import with_facts
 from tacticwright.statements import closed
 from tacticwright.statements import opened
+from tacticwright.terms import alike
 
 
 def into(lore, goal, tactic):
@@ -25,7 +26,7 @@ def into(lore, goal, tactic):
 
 
 def by(lore, goal, tactic):
-    need(needed_fact(lore, goal, tactic[1]) == goal[1])
+    need(alike(needed_fact(lore, goal, tactic[1]), goal[1]))
     return [], ("fact", tactic[1])
 
 
@@ -34,7 +35,7 @@ def use(lore, goal, tactic):
     word, h, ts = tactic
     told, p = opened_fact(lore, goal, h, ts)
     come = []
-    while told != G:
+    while not alike(told, G):
         need(told[0] == "if")
         p = ("give", p, ("hole", len(come)))
         come.append((context, told[1]))
@@ -128,14 +129,14 @@ def plain(lore, goal, tactic):
     G = goal[1]
     need(G[0] == "same")
     word, t, u = needed_reckoned(lore, G)
-    need(t == u)
+    need(alike(t, u))
     return [], ("reckon", G, ("plain", G[1]))
 
 
 def reckon(lore, goal, tactic):
     context, G = goal
     told = needed_reckoned(lore, G)
-    need(told != G)
+    need(not alike(told, G))
     return [(context, told)], ("reckon", G, ("hole", 0))
 
 
@@ -143,7 +144,7 @@ def tidy(lore, goal, tactic):
     word, h, g = tactic
     fact = needed_fact(lore, goal, h)
     told = needed_reckoned(lore, fact)
-    need(told != fact)
+    need(not alike(told, fact))
     need_new(lore, goal, (g,))
     facts = [(g, told, ("reckon", told, ("fact", h)))]
     return [with_entries(goal, [("fact", g, told)])], with_facts(facts, ("hole", 0))

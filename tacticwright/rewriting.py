@@ -6,6 +6,7 @@ A way is a place in a statement: by the numbers of its parts, and on by those of
 from tacticwright.needs import need
 from tacticwright.needs import opened_fact
 from tacticwright.terms import BIND_WORDS
+from tacticwright.terms import alike
 from tacticwright.terms import parts_of
 from tacticwright.terms import with_place
 
@@ -16,7 +17,7 @@ def ways_to(A, t):
     pending = [((), A, 0)]
     while pending:
         way, part, depth = pending.pop()
-        if part == t:
+        if alike(part, t):
             found.append((way, depth))
         else:
             inmost = depth + 1 if part[0] in BIND_WORDS else depth
@@ -51,7 +52,7 @@ def turn_met(lore, goal, tactic):
     context, G = goal
     word, h, ts, way = tactic
     told, p = opened_fact(lore, goal, h, ts)
-    need(told[0] == "same" and told[1] != told[2])
+    need(told[0] == "same" and not alike(told[1], told[2]))
     t, u = (told[1], told[2]) if way == "on" else (told[2], told[1])
     turned = walk(G, t, u)
     need(len(turned) > 1)

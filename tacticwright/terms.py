@@ -144,6 +144,27 @@ def nodes(thing):
     return many
 
 
+def head_of(thing):
+    """A term's or statement's word, its name or number, and how many stand straight within it."""
+    word = thing[0]
+    named = None if word == "false" or word in PAIR_WORDS else thing[1]
+    return (word, named, len(parts_of(thing)))
+
+
+def alike(one, other):
+    """Whether two terms or statements are the same.
+
+    Python's own comparison goes by calls within calls, and these may be as deep as whatever was told.
+    """
+    pending = [(one, other)]
+    while pending:
+        part, twin = pending.pop()
+        if head_of(part) != head_of(twin):
+            return False
+        pending.extend(list(zip(parts_of(part), parts_of(twin))))
+    return True
+
+
 def is_great(thing):
     """Whether a term or statement has more nodes than may be, or one beneath more than may be."""
     many = 0

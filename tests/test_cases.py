@@ -11,6 +11,7 @@ from test_plain import OLD, behind, fact, thing
 M, N, O, Q = free("m"), free("s"), free("o"), free("q")
 SHAPES = [
     ("kind", "unit", (("Unit", ()),)),
+    ("kind", "trio", (("Red", ()), ("Mix", ("trio", "nat", "trio")), ("Blue", ("nat",)))),
     ("kind", "quad", (("Tip", ("item",)), ("Two", ("nat", "quad")), ("Four", ("quad", "item", "quad", "quad")), ("End", ()))),
 ]
 LORE = Lore(BOOK_ROWS + SHAPES)
@@ -46,6 +47,18 @@ class TestCases(MeetCase):
                    (context + (thing("q", "quad"), thing("m", "item"), thing("o", "quad"), thing("s", "quad"),
                                fact("g", same(V, form("Four", Q, M, O, N)))), RAIN),
                    (context + (fact("m", same(V, form("End"))),), RAIN), context=context, lore=LORE)
+
+    def test_a_kind_of_three_forms(self):
+        context = (thing("t", "trio"),)
+        T = free("t")
+        self.meets(RAIN, ("cases", T, (((), "h"), (("m", "o", "q"), "h"), (("m",), "h"))),
+                   (context + (fact("h", same(T, form("Red"))),), RAIN),
+                   (context + (thing("m", "trio"), thing("o", "nat"), thing("q", "trio"), fact("h", same(T, form("Mix", M, O, Q)))), RAIN),
+                   (context + (thing("m", "nat"), fact("h", same(T, form("Blue", M)))), RAIN), context=context, lore=LORE)
+        self.meets(same(T, T), ("induct", "t", (((), ()), (("m", "o", "q"), ("h", "g")), (("m",), ()))), same(form("Red"), form("Red")),
+                   (context + (thing("m", "trio"), thing("o", "nat"), thing("q", "trio"), fact("h", same(M, M)), fact("g", same(Q, Q))),
+                    same(form("Mix", M, O, Q), form("Mix", M, O, Q))),
+                   (context + (thing("m", "nat"),), same(form("Blue", M), form("Blue", M))), context=context, lore=LORE)
 
     def test_fails(self):
         zero, step = ((), "h"), (("m",), "g")

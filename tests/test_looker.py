@@ -218,6 +218,39 @@ class TestBorneOut(LookCase):
         self.assertEqual(place_of(chain), (0,) * 3000)
 
 
+class TestDeepStatements(LookCase):
+    """A reason within the bounds may bear out a statement far beyond them, and what was told may be handed in again."""
+
+    def deep(self, many):
+        """A reason of a same of two sides of so many times fifty nodes."""
+        t = M
+        for turn in range(50):
+            t = suc(t)
+        reason = ("plain", M)
+        for turn in range(many):
+            reason = ("at", ("each", "m", "nat", reason), t)
+        return reason
+
+    def test_told_and_handed_in_again(self):
+        context = (("thing", "m", "nat"),)
+        reason = self.deep(40)
+        self.assertFalse(is_great_reason(reason))
+        told = looked(LORE, context, reason)
+        other = looked(LORE, context, self.deep(40))
+        facts = context + (("fact", "h", told),)
+        twins = [(context + (("fact", "h", other),), RAIN), (context, other)]
+        rows = [("give", ("into", "g", other, ("fact", "g")), ("fact", "h")), ("give", ("into", "g", other, ("hole", 0)), reason),
+                ("cases", ("sure", RAIN), "g", ("fact", "h"), "g", reason), ("reckon", other, ("fact", "h")),
+                ("swap", ("plain", M), other, ("fact", "h")), ("swap", ("fact", "h"), ("same", bound(0), other[2]), reason),
+                ("with", M, other, ("fact", "h")), ("inner", ("fact", "h"), 0),
+                ("forms", M, (((), "g", ("fact", "h")), (("o",), "g", reason)))]
+        for row in rows:
+            self.assertIs(place_of(row, facts, [(facts + (("fact", "g", other),), RAIN)]), NONE, row[0])
+        self.assertEqual(looked(LORE, facts, ("hole", 0), twins), RAIN)
+        self.assertEqual(place_of(("hole", 1), facts, twins), ())
+        self.assertEqual(place_of(("give", ("into", "g", other, ("fact", "g")), self.deep(39)), context, None), ())
+
+
 class TestFaults(LookCase):
 
     def test_fact(self):

@@ -4,7 +4,7 @@ import unittest
 
 import slow
 from samples import FALSE, ZERO, atom, bound, call, form, free, nested, odd_things, same, suc
-from tacticwright.terms import args_put, at_place, free_in, is_form_name, is_great, is_name, is_term, nodes, with_place
+from tacticwright.terms import alike, args_put, at_place, free_in, is_form_name, is_great, is_name, is_term, nodes, with_place
 
 RIGHT_TERMS = [
     free("x"), free("abcdefgh"), bound(0), bound(1), bound(99), ZERO, form("C"), form("C", free("x")),
@@ -256,6 +256,23 @@ class TestArgsPut(unittest.TestCase):
         t = call("f", form("Four", bound(6), bound(5), bound(4), bound(3)), bound(2), bound(1), bound(0))
         made = call("f", form("Four", free("g"), free("f"), free("e"), free("d")), free("c"), free("b"), free("a"))
         self.assertEqual(args_put(t, args), made)
+
+
+class TestAlike(unittest.TestCase):
+
+    def test_each_against_each(self):
+        pair = ("and", FALSE, atom("p"))
+        things = RIGHT_TERMS + [FALSE, same(ZERO, bound(0)), same(bound(0), ZERO), atom("p"), atom("q"), atom("p", ZERO), atom("p", bound(0)), pair,
+                                ("or",) + pair[1:], ("if",) + pair[1:], ("if", atom("p"), FALSE), ("all", "nat", FALSE), ("some", "nat", FALSE),
+                                ("all", "item", FALSE), ("all", "nat", atom("p")), ("all", "nat", pair)]
+        for one in things:
+            for other in things:
+                self.assertIs(alike(one, other), one == other, (one, other))
+
+    def test_however_deep(self):
+        self.assertIs(alike(nested(5000, ("free", "x")), nested(5000, ("free", "x"))), True)
+        self.assertIs(alike(nested(5000, ("free", "x")), nested(5000, ("free", "y"))), False)
+        self.assertIs(alike(nested(5000, ("free", "x")), nested(4999, ("free", "x"))), False)
 
 
 if __name__ == "__main__":
