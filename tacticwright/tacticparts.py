@@ -34,6 +34,7 @@ TACTIC_PARTS = {
     "try": ("tactic",),
     "again": ("tactic",),
     "done": (),
+    "settle": (),
 }
 
 

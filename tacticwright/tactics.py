@@ -8,6 +8,7 @@ from tacticwright.plain import plain_met
 from tacticwright.reasons import holes_filled
 from tacticwright.reasons import is_great_reason
 from tacticwright.rewriting import turn_met
+from tacticwright.settling import settle_met
 from tacticwright.tacticparts import is_tactic_node
 from tacticwright.terms import is_great
 
@@ -89,6 +90,8 @@ def one_met(lore, goal, tactic):
         come, p = turn_met(lore, goal, tactic)
     elif tactic[0] in CASES:
         come, p = cases_met(lore, goal, tactic)
+    elif tactic[0] == "settle":
+        come, p = settle_met(lore, goal, tactic)
     else:
         come, p = plain_met(lore, goal, tactic)
     need(all([is_within_bounds(goal, one) for one in come]))

@@ -112,6 +112,15 @@ def not_so(told):
     return None if told is None else not told
 
 
+def joined_truth(word, told):
+    """The truth of an and, or or if by the truths of both its sides."""
+    if word == "and":
+        return all_true(told, True)
+    if word == "or":
+        return one_true(told, True)
+    return one_true([not_so(told[0]), told[1]], True)
+
+
 class Looking:
     """The look for one truth: where it is looked for, and how many statements were looked at."""
 
@@ -152,12 +161,8 @@ class Looking:
 
     def joined(self, A, told):
         """The truth of A by the truths of what stands within."""
-        if A[0] == "and":
-            return all_true(told, True)
-        if A[0] == "or":
-            return one_true(told, True)
-        if A[0] == "if":
-            return one_true([not_so(told[0]), told[1]], True)
+        if A[0] not in BIND_WORDS:
+            return joined_truth(A[0], told)
         are_all = self.value_list(A[1])[1]
         return all_true(told, are_all) if A[0] == "all" else one_true(told, are_all)
 

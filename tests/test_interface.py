@@ -16,8 +16,11 @@ INTERFACE = {
     "goals": ["is_goal(lore, thing)"],
     "rewriting": ["walk(A, t, u)"],
     "tactics": ["met(lore, goal, tactic)"],
+    "settling": ["is_plain(lore, goal)", "settled(lore, goal)"],
 }
 LORE = ["rows(self)", "forms(self, K)", "has_kind(self, K)", "form(self, C)", "function(self, f)", "word(self, P)", "fact(self, h)"]
+
+WORK = ["goals(self)", "reason(self)", "do(self, tactic)", "back(self)", "fill(self, n, p)"]
 
 
 class TestInterface(unittest.TestCase):
@@ -38,6 +41,13 @@ class TestInterface(unittest.TestCase):
             for row in LORE:
                 name = row.split("(")[0]
                 self.assertEqual(name + str(inspect.signature(getattr(kind, name))), row)
+
+    def test_work(self):
+        work = importlib.import_module("tacticwright.works").Work
+        self.assertEqual(str(inspect.signature(work)), "(lore, A)")
+        for row in WORK:
+            name = row.split("(")[0]
+            self.assertEqual(name + str(inspect.signature(getattr(work, name))), row)
 
     def test_errors(self):
         errors = importlib.import_module("tacticwright.errors")
