@@ -25,16 +25,24 @@ class Lore:
         self.fact_rows = {}
         self.loose_facts = {}
         for place, row in enumerate(rows):
-            if not head_is_right(self, row) or not self.is_borne_out(row):
-                raise NoBook(place)
-            # A rule calls itself, so its row stands here ahead of the look at its terms.
-            self.keep(row)
-            if not inside_is_right(self, row):
+            if not self.put(row):
                 raise NoBook(place)
 
     def is_borne_out(self, row):
         """Whether a row with a right head, which isn't kept yet, has a right reason; lore looks at none."""
         return True
+
+    def may_put(self, row):
+        """Whether a row, of anything, may stand behind the others, its terms and statement not looked at."""
+        return len(self.row_list) < MOST_ROWS and head_is_right(self, row) and self.is_borne_out(row)
+
+    def put(self, row):
+        """Puts a row, of anything, behind the others; whether it is right there (else the lore is none any more)."""
+        if not self.may_put(row):
+            return False
+        # A rule calls itself, so its row stands here ahead of the look at its terms.
+        self.keep(row)
+        return inside_is_right(self, row)
 
     def keep(self, row):
         """Puts a row with a right head behind the others."""

@@ -157,22 +157,25 @@ def reasons_of(p):
     return found
 
 
-def holes_filled(p, fillings):
-    """A reason with the n-th of the fillings, a list of reasons, in the place of each hole n."""
+def rebuilt(p, change):
+    """What change(part) tells of a reason, once it was asked of each one within, which it stands for."""
     pending = [(p, False)]
     made = []
     while pending:
         part, ready = pending.pop()
         inner = reasons_in(part)
-        if part[0] == "hole":
-            made.append(fillings[part[1]])
-        elif ready:
+        if ready or len(inner) == 0:
             at = len(made) - len(inner)
-            made[at:] = [with_reasons(part, made[at:])]
+            made[at:] = [change(with_reasons(part, made[at:]))]
         else:
             pending.append((part, True))
             pending.extend([(one, False) for one in reversed(inner)])
     return made[0]
+
+
+def holes_filled(p, fillings):
+    """A reason with the n-th of the fillings, a list of reasons, in the place of each hole n."""
+    return rebuilt(p, lambda part: fillings[part[1]] if part[0] == "hole" else part)
 
 
 def reason_nodes(p):
@@ -191,5 +194,13 @@ def reason_depth(p):
 
 
 def is_great_reason(p):
-    """Whether a reason has more nodes than may be, or a reason beneath more than may be."""
-    return reason_nodes(p) > MOST_REASON_NODES or reason_depth(p) > MOST_REASON_DEPTH
+    """Whether a reason has more nodes than may be, or a reason beneath more than may be; no more is counted."""
+    many = 0
+    pending = [(p, 0)]
+    while pending:
+        part, depth = pending.pop()
+        many += 1 + sum([nodes(said) for said in said_in(part)])
+        if many > MOST_REASON_NODES or depth > MOST_REASON_DEPTH:
+            return True
+        pending.extend([(inner, depth + 1) for inner in reasons_in(part)])
+    return False

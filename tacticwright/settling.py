@@ -14,8 +14,8 @@ from tacticwright.signs import SIGNED_WORDS
 from tacticwright.signs import settling_name
 from tacticwright.signs import shown
 from tacticwright.signs import truth_by
+from tacticwright.signs import unlike_in
 from tacticwright.terms import TERM_WORDS
-from tacticwright.terms import alike
 from tacticwright.terms import nodes
 from tacticwright.terms import parts_of
 from tacticwright.terms import with_parts
@@ -26,18 +26,6 @@ MOST_PLAIN_NODES = 60
 MOST_SIGNED = 4
 MOST_TERMS = 8
 PLAIN_GOAL_WORDS = ("false", "same", "atom", "and", "or", "if", "free", "call")
-
-
-def unlike_in(A, words):
-    """The list of the unlike terms and statements of these words that stand in a statement, from the left."""
-    found = []
-    pending = [A]
-    while pending:
-        part = pending.pop()
-        if part[0] in words and not any([alike(part, one) for one in found]):
-            found.append(part)
-        pending.extend(parts_of(part)[::-1])
-    return found
 
 
 def are_plain_words(A):
@@ -76,10 +64,10 @@ def is_plain(lore, goal):
 def merged(terms, signs):
     """The terms merged by the sames among signs that are so."""
     merging = Merging(terms)
-    for X, so, h in signs:
+    for X, so, p in signs:
         if so and X[0] == "same":
             one, other = merging.numbers(X)
-            merging.bind(one, other, ("fact", h))
+            merging.bind(one, other, p)
     return merging
 
 
@@ -102,25 +90,25 @@ def against(merging, signs, denied):
     if denied[0] == "same":
         one, other = wanted
         return merging.same_reason(one, other) if merging.are_one([one], [other]) else None
-    for X, so, h in signs:
+    for X, so, p in signs:
         if so and X[0] == "atom" and X[1] == denied[1] and merging.are_one(merging.numbers(X), wanted):
-            return merging.moved(lambda parts: with_parts(denied, parts), merging.numbers(X), wanted, ("fact", h))
+            return merging.moved(lambda parts: with_parts(denied, parts), merging.numbers(X), wanted, p)
     return None
 
 
 def clash(merging, signs):
     """A reason of false by signs that go against one another, None where they go together."""
-    for X, so, h in signs:
-        p = None if so else against(merging, signs, X)
-        if p is not None:
-            return ("give", ("fact", h), p)
+    for X, so, p in signs:
+        q = None if so else against(merging, signs, X)
+        if q is not None:
+            return ("give", p, q)
     return None
 
 
 def countered(lore, things, merging, signs):
     """A world, and values of the things, in which signs that go together are as they tell."""
     kinds = [kind_of(lore, things, [], t) for t in merging.terms]
-    atoms = [X for X, so, h in signs if so and X[0] == "atom"]
+    atoms = [X for X, so, p in signs if so and X[0] == "atom"]
     return ("world", term_world(lore, merging, kinds, atoms), thing_values(merging, kinds, things))
 
 
@@ -140,8 +128,8 @@ def settled_by(lore, goal, terms, signs, rest):
     X = rest[0]
     h = settling_name(len(signs))
     made = []
-    for sign in ((X, True, h), (X, False, h)):
-        told = settled_by(lore, goal, terms, signs + [sign], rest[1:])
+    for sign in (True, False):
+        told = settled_by(lore, goal, terms, signs + [(X, sign, ("fact", h))], rest[1:])
         if told[0] == "world":
             return told
         made.append(told[1])

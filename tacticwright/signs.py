@@ -1,12 +1,13 @@
 """Signs: what a statement without all and some comes to by the signs of its sames and atoms, and reasons of it.
 
-Signs are a list of tuples (X, whether it is so, h), X a same or an atom and h a fact of X or of not X.
+Signs are a list of tuples (X, whether it is so, p), X a same or an atom and p a reason of X or of not X.
 """
 
 from tacticwright.bookrows import KEPT_FOR_SETTLING
 from tacticwright.terms import SMALL_LETTERS
 from tacticwright.terms import alike
 from tacticwright.terms import folded
+from tacticwright.terms import parts_of
 from tacticwright.worlds import joined_truth
 
 SIGNED_WORDS = ("same", "atom")
@@ -15,6 +16,18 @@ SIGNED_WORDS = ("same", "atom")
 def settling_name(n):
     """The n-th of the names, some hundred, that are kept for settling."""
     return KEPT_FOR_SETTLING + SMALL_LETTERS[n // len(SMALL_LETTERS)] + SMALL_LETTERS[n % len(SMALL_LETTERS)]
+
+
+def unlike_in(A, words):
+    """The list of the unlike terms and statements of these words that stand in a statement, from the left."""
+    found = []
+    pending = [A]
+    while pending:
+        part = pending.pop()
+        if part[0] in words and not any([alike(part, one) for one in found]):
+            found.append(part)
+        pending.extend(parts_of(part)[::-1])
+    return found
 
 
 def sign_of(signs, X):
@@ -53,7 +66,7 @@ def shown(signs, A, n):
         return ("right", A[1], shown(signs, A[2], n))
     if A[0] == "if":
         return shown_if(signs, A, n)
-    return ("fact", sign_of(signs, A)[2])
+    return sign_of(signs, A)[2]
 
 
 def refuted(signs, A, p, n):
@@ -70,4 +83,4 @@ def refuted(signs, A, p, n):
         return ("cases", p, h, left, h, right)
     if A[0] == "if":
         return refuted(signs, A[2], ("give", p, shown(signs, A[1], n)), n)
-    return ("give", ("fact", sign_of(signs, A)[2]), p)
+    return ("give", sign_of(signs, A)[2], p)

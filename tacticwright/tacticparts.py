@@ -26,8 +26,8 @@ TACTIC_PARTS = {
     "unlike": ("name",),
     "inner": ("name", "names"),
     "turn": ("name", "terms", "way"),
-    "cases": ("term", "cases rows"),
-    "induct": ("name", "induct rows"),
+    "cases": ("term", "cases names"),
+    "induct": ("name", "induct names"),
     "sure": ("statement", "name", "name"),
     "then": ("tactic", "tactic"),
     "first": ("tactics",),
@@ -74,9 +74,9 @@ def is_tactic_part(sort, thing):
         return is_statement(thing)
     if sort == "way":
         return is_way(thing)
-    if sort == "cases rows":
+    if sort == "cases names":
         return isinstance(thing, tuple) and all([is_cases_row(row) for row in thing])
-    if sort == "induct rows":
+    if sort == "induct names":
         return isinstance(thing, tuple) and all([is_induct_row(row) for row in thing])
     return sort == "tactic" or isinstance(thing, tuple)
 

@@ -17,6 +17,10 @@ INTERFACE = {
     "rewriting": ["walk(A, t, u)"],
     "tactics": ["met(lore, goal, tactic)"],
     "settling": ["is_plain(lore, goal)", "settled(lore, goal)"],
+    "running": ["step(book, reason)", "ran(book, reason)", "witness(book, reason)"],
+    "writing": ["show_term(t)", "show_statement(A)", "show_reason(p)", "show_tactic(a)"],
+    "reading": ["read_term(text)", "read_statement(text)", "read_reason(text)", "read_tactic(text)"],
+    "papers": ["answered(text)"],
 }
 LORE = ["rows(self)", "forms(self, K)", "has_kind(self, K)", "form(self, C)", "function(self, f)", "word(self, P)", "fact(self, h)"]
 
