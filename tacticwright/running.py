@@ -35,6 +35,14 @@ def reckoned_form(lore, t):
     return (told, names.index(told[1]))
 
 
+def told_as(lore, A, B, p):
+    """A reason of A, made of a reason p of a B that reckons to the same; refused where A goes beyond reckoning."""
+    if alike(A, B):
+        return p
+    reckoned(lore, A)
+    return ("reckon", A, p)
+
+
 def from_fact(lore, p):
     row = lore.fact(p[1])
     if row[0] == "taken":
@@ -74,7 +82,7 @@ def induct_out(lore, made, t):
     kinds = lore.forms(K)[at][1]
     again = [("at", made, part) for part, kind in zip(told[2], kinds) if kind == K]
     come = put_in(q, dict(zip(xs, told[2])), dict(zip(hs, again)))
-    return come if alike(told, t) else ("reckon", opened(A, t), come)
+    return told_as(lore, opened(A, t), opened(A, told), come)
 
 
 def at_out(lore, p, made):
@@ -100,12 +108,8 @@ def take_out(lore, p, made):
     return put_in(p[4], {p[2]: t}, {p[3]: q})
 
 
-def swap_inward(p, A, made):
-    return ("reckon", opened(p[2], A[2]), p[3])
-
-
 def swap_out(lore, p, made):
-    return swap_inward(p, ("same", made[1], made[1]), made)
+    return p[3]
 
 
 def inner_out(lore, p, made):
@@ -124,34 +128,40 @@ OUT = {
 }
 
 
-def give_inward(p, A, made):
+def give_inward(lore, p, A, made):
     return ("reckon", A[2], ("give", made, ("reckon", made[2], p[2])))
 
 
-def at_inward(p, A, made):
-    return ("reckon", opened(A[2], p[2]), ("at", made, p[2]))
+def at_inward(lore, p, A, made):
+    told = opened(A[2], p[2])
+    reckoned(lore, told)
+    return ("reckon", told, ("at", made, p[2]))
 
 
-def first_inward(p, A, made):
+def first_inward(lore, p, A, made):
     return ("reckon", A[1], ("first", made))
 
 
-def second_inward(p, A, made):
+def second_inward(lore, p, A, made):
     return ("reckon", A[2], ("second", made))
 
 
-def cases_inward(p, A, made):
+def cases_inward(lore, p, A, made):
     if made[0] == "left":
         return with_head(p, ("left", ("reckon", A[1], made[1]), A[2]))
     return with_head(p, ("right", A[1], ("reckon", A[2], made[2])))
 
 
-def take_inward(p, A, made):
+def take_inward(lore, p, A, made):
     word, t, B, q = made
-    return with_head(p, ("with", t, A[2], ("reckon", opened(A[2], t), q)))
+    return with_head(p, ("with", t, A[2], told_as(lore, opened(A[2], t), opened(B, t), q)))
 
 
-def inner_inward(p, A, made):
+def swap_inward(lore, p, A, made):
+    return told_as(lore, opened(p[2], A[2]), opened(p[2], A[1]), p[3])
+
+
+def inner_inward(lore, p, A, made):
     t, u = A[1][2][p[2]], A[2][2][p[2]]
     return ("reckon", ("same", t, u), ("plain", t))
 
@@ -204,7 +214,7 @@ def gone_out(lore, around, made):
         out = OUT[p[0]]
         return put_back(around, out(lore, p, made))
     inward = INWARD[p[0]]
-    return put_back(around, inward(p, shell[1], made))
+    return put_back(around, inward(lore, p, shell[1], made))
 
 
 def step(book, reason):

@@ -48,39 +48,64 @@ def truth_by(signs, A):
     return folded(A, tell, SIGNED_WORDS)
 
 
-def shown_if(signs, A, n):
-    word, B, C = A
+def rows_to_show(signs, A, n):
+    """What is to be done for a reason of a statement that is True by signs, and how it is made of what that tells."""
+    if A[0] == "and":
+        return [("show", A[1], n), ("show", A[2], n), ("make", 2, lambda made: ("both", made[0], made[1]))]
+    if A[0] == "or" and truth_by(signs, A[1]) is True:
+        return [("show", A[1], n), ("make", 1, lambda made: ("left", made[0], A[2]))]
+    if A[0] == "or":
+        return [("show", A[2], n), ("make", 1, lambda made: ("right", A[1], made[0]))]
+    if A[0] != "if":
+        return [("make", 0, lambda made: sign_of(signs, A)[2])]
     h = settling_name(n)
-    if truth_by(signs, C) is True:
-        return ("into", h, B, shown(signs, C, n + 1))
-    return ("into", h, B, ("never", refuted(signs, B, ("fact", h), n + 1), C))
+    if truth_by(signs, A[2]) is True:
+        return [("show", A[2], n + 1), ("make", 1, lambda made: ("into", h, A[1], made[0]))]
+    never = [("make", 1, lambda made: ("into", h, A[1], ("never", made[0], A[2])))]
+    return [("refute", A[1], ("fact", h), n + 1)] + never
+
+
+def rows_to_refute(signs, A, p, n):
+    """What is to be done for a reason of false, made of a reason p of a statement that is False by signs."""
+    if A[0] == "false":
+        return [("make", 0, lambda made: p)]
+    if A[0] == "and" and truth_by(signs, A[1]) is False:
+        return [("refute", A[1], ("first", p), n)]
+    if A[0] == "and":
+        return [("refute", A[2], ("second", p), n)]
+    if A[0] == "if":
+        return [("show", A[1], n), ("refute given", A[2], p, n)]
+    if A[0] != "or":
+        return [("make", 0, lambda made: ("give", sign_of(signs, A)[2], p))]
+    h = settling_name(n)
+    sides = [("refute", part, ("fact", h), n + 1) for part in A[1:]]
+    return sides + [("make", 2, lambda made: ("cases", p, h, made[0], h, made[1]))]
+
+
+def done_by(signs, first):
+    """The reason that comes of a row of what is to be done; it goes by a list of rows, for statements may be deep."""
+    pending = [first]
+    made = []
+    while pending:
+        row = pending.pop()
+        if row[0] == "make":
+            word, many, build = row
+            at = len(made) - many
+            made[at:] = [build(made[at:])]
+        elif row[0] == "show":
+            pending.extend(rows_to_show(signs, row[1], row[2])[::-1])
+        else:
+            word, A, p, n = row
+            p = ("give", p, made.pop()) if word == "refute given" else p
+            pending.extend(rows_to_refute(signs, A, p, n)[::-1])
+    return made[0]
 
 
 def shown(signs, A, n):
     """A reason of a statement that is True by signs; the facts it puts behind have names from the n-th on."""
-    if A[0] == "and":
-        return ("both", shown(signs, A[1], n), shown(signs, A[2], n))
-    if A[0] == "or" and truth_by(signs, A[1]) is True:
-        return ("left", shown(signs, A[1], n), A[2])
-    if A[0] == "or":
-        return ("right", A[1], shown(signs, A[2], n))
-    if A[0] == "if":
-        return shown_if(signs, A, n)
-    return sign_of(signs, A)[2]
+    return done_by(signs, ("show", A, n))
 
 
 def refuted(signs, A, p, n):
     """A reason of false, made of a reason p of a statement that is False by signs; names as for shown."""
-    if A[0] == "false":
-        return p
-    if A[0] == "and" and truth_by(signs, A[1]) is False:
-        return refuted(signs, A[1], ("first", p), n)
-    if A[0] == "and":
-        return refuted(signs, A[2], ("second", p), n)
-    if A[0] == "or":
-        h = settling_name(n)
-        left, right = [refuted(signs, part, ("fact", h), n + 1) for part in A[1:]]
-        return ("cases", p, h, left, h, right)
-    if A[0] == "if":
-        return refuted(signs, A[2], ("give", p, shown(signs, A[1], n)), n)
-    return ("give", sign_of(signs, A)[2], p)
+    return done_by(signs, ("refute", A, p, n))

@@ -18,6 +18,9 @@ ROWS = [
     ("given", "box", ("nat",), "box"),
     ("short", "ff", ("item",), "item", call("f", call("f", ("bound", 0)))),
     ("atom", "near", ("item", "item")),
+    ("atom", "far", ("item", "item")),
+    ("atom", "wet", ()),
+    ("atom", "dry", ()),
     ("atom", "here", ("place",)),
     ("atom", "rain", ()),
     ("atom", "even", ("nat",)),
@@ -40,13 +43,13 @@ def term(rng, kind, depth):
 
 
 def saying(rng, depth):
-    word = rng.choice(["same", "same", "same", "near", "here", "rain"])
+    word = rng.choice(["same", "same", "same", "near", "far", "here", "rain", "wet"])
     if word == "same":
         kind = rng.choice(["item", "item", "place"])
         return same(term(rng, kind, depth), term(rng, kind, depth))
-    if word == "near":
-        return atom("near", term(rng, "item", depth), term(rng, "item", depth))
-    return atom("here", term(rng, "place", depth)) if word == "here" else atom("rain")
+    if word in ("near", "far"):
+        return atom(word, term(rng, "item", depth), term(rng, "item", depth))
+    return atom("here", term(rng, "place", depth)) if word == "here" else atom(word)
 
 
 def pooled(rng):
@@ -56,7 +59,7 @@ def pooled(rng):
         made = rng.choice([call("f", pool[-1]), call("f", rng.choice(pool)), call("g", rng.choice(pool), rng.choice(pool))])
         pool += [made] if made not in pool else []
     made = [same(rng.choice(pool), rng.choice(pool)) for turn in range(4)]
-    return [atom("near", X[1], X[2]) if rng.random() < 0.2 else X for X in made]
+    return [atom(rng.choice(["near", "far"]), X[1], X[2]) if rng.random() < 0.3 else X for X in made]
 
 
 def join(rng, sayings, depth):

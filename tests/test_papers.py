@@ -159,6 +159,8 @@ class TestLines(PaperCase):
         self.refuses(n + 1, *HEAD, "rule add(nat) nat", "| Zero = Zero", "| Suc(x) = add(x)")
         self.refuses(n + 1, *HEAD, "rule f(nat) none", "| Zero = Zero", "| Suc(x) = f(x)")
         self.refuses(n + 1, *HEAD, "rule f(nat, none) nat", "| Zero y = Zero", "| Suc(x) y = f(x, y)")
+        self.refuses(n + 1, *HEAD, "rule add(nat) nat", "| Zero", "| Suc(x) = add(x)")
+        self.refuses(n + 1, *HEAD, "rule f(nat, none) nat", "| None = Zero")
         # Its terms make no book: a rule's place is its first line's.
         self.refuses(n + 1, *HEAD, "rule f(nat) nat", "| Zero = Nil", "| Suc(x) = f(x)")
         self.refuses(n + 1, *HEAD, "rule f(nat) nat", "| Zero = Zero", "| Suc(x) = f(Suc(x))")
@@ -241,7 +243,8 @@ class TestClaims(PaperCase):
 
     def test_lines_of_tactics(self):
         n = len(HEAD)
-        for line in ("by(rains)", " by(rains)", "   by(rains)", "  by(rains) ", "  ", "   ", "", "\tby(rains)", "  run", "  end", "run ", "end ", " end", "End", "  by(rains)\r"):
+        for line in ("by(rains)", " by(rains)", "   by(rains)", "  by(rains) ", "  ", "   ", "", "\tby(rains)", "  run", "  end", "run ", "end ", " end", "End", "  by(rains)\r", "..by(rains)", "\t by(rains)", " \tby(rains)",
+                     "byby(rains)"):
             self.refuses(n + 2, *HEAD, "claim c: rain()", line, "end")
 
     def test_settle_and_rows_of_tactics(self):

@@ -121,6 +121,11 @@ class TestNoWords(ReadCase):
                     self.reads(read, show(told), told)
             self.assertGreater(refused, 100)
 
+    def test_texts_that_end_too_soon(self):
+        for read, pairs in PAIRS[2:]:
+            for text, thing in pairs:
+                self.refuses(read, *[text[:at] for at in range(len(text))])
+
     def test_blanks_and_brackets(self):
         self.refuses(read_term, " x", "x ", "f (x)", "f( x)", "f(x )", "f(x,y)", "f(x , y)", "f(x,  y)", "f(x", "f(x))", "(x)", "Suc()", "Zero()", "f(x,)", "f(x, )",
                      "f(, x)", "f(x y)", "f[x]", "f(x)(y)", "x(", "f\n(x)", "f(x)\n", "\nx", "f(x,\ny)")

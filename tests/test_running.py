@@ -103,6 +103,39 @@ class TestSteps(RunCase):
         inner = ("cases", ("sure", A0), "h", ("fact", "h"), "g", ("fact", "h"))
         self.goes_to(("give", ("into", "h", A0, ("both", inner, P0)), P0), ("both", inner[:5] + (P0,), P0))
 
+    def test_names_that_are_put_behind_again_hide_it(self):
+        def given(q):
+            return ("give", ("into", "h", A0, ("both", ("fact", "h"), q)), P0)
+        left, right = ("left", P1, A1), ("right", A1, P1)
+        zero, later = ADDING[3]
+        for q, come in (
+                (("cases", left, "h", ("fact", "h"), "g", ("fact", "g")), None),
+                (("cases", right, "g", ("fact", "g"), "h", ("fact", "h")), None),
+                (("cases", left, "g", ("fact", "h"), "h", P0), ("cases", left, "g", P0, "h", P0)),
+                (("cases", left, "h", P0, "g", ("fact", "h")), ("cases", left, "h", P0, "g", P0)),
+                (("take", WITH, "n", "h", ("with", N, same(bound(0), ONE), ("fact", "h"))), None),
+                (("take", ("with", ZERO, same(bound(0), ZERO), ("fact", "h")), "n", "h", P1), ("take", ("with", ZERO, same(bound(0), ZERO), P0), "n", "h", P1)),
+                (("into", "h", A1, ("fact", "h")), None),
+                (("into", "g", A1, ("fact", "h")), ("into", "g", A1, P0)),
+                (("forms", ZERO, (((), "h", ("plain", ZERO)), (("m",), "g", ("fact", "h")))), ("forms", ZERO, (((), "h", P0), (("m",), "g", P0)))),
+                (("induct", "nat", MOVED, (zero, (("m",), ("h",), later[2][:2] + (("swap", ("fact", "h")) + later[2][2][2:],)))), None)):
+            self.goes_to(given(q), ("both", P0, q if come is None else come))
+
+    def test_things_that_are_put_behind_again_hide_it(self):
+        def given(q):
+            return ("at", ("each", "n", "nat", ("both", ("plain", N), q)), TWO)
+        for q, come in (
+                (("each", "n", "nat", ("plain", N)), None),
+                (("each", "m", "nat", ("plain", N)), ("each", "m", "nat", P2)),
+                (("take", WITH, "n", "h", ("with", N, same(bound(0), ONE), ("fact", "h"))), None),
+                (("take", WITH, "m", "h", ("with", N, same(bound(0), N), ("plain", N))), ("take", WITH, "m", "h", ("with", TWO, same(bound(0), TWO), P2))),
+                (("forms", ONE, (((), "h", P0), (("n",), "h", ("first", ("both", P0, ("plain", N)))))), None),
+                (("forms", N, (((), "h", P0), (("m",), "h", P0))), ("forms", TWO, (((), "h", P0), (("m",), "h", P0)))),
+                (("induct", "nat", A0, (((), (), P0), (("n",), ("h",), ("first", ("both", P0, ("plain", N)))))), None),
+                (("induct", "nat", same(N, N), (((), (), ("plain", N)), (("m",), ("h",), ("plain", N)))),
+                 ("induct", "nat", same(TWO, TWO), (((), (), P2), (("m",), ("h",), P2))))):
+            self.goes_to(given(q), ("both", P2, q if come is None else come))
+
     def test_at_of_each(self):
         self.goes_to(("at", ("each", "n", "nat", ("plain", suc(N))), TWO), ("plain", number(3)))
         within = ("each", "n", "nat", ("plain", N))
@@ -295,6 +328,9 @@ class TestStuck(RunCase):
         self.is_stuck(("at", ADDING, call("add", call("size", spot), ZERO)), book)
         self.is_stuck(("forms", call("size", spot), (((), "h", P0), (("m",), "h", P0))), book)
         self.is_stuck(("sure", same(call("size", spot), ZERO)), book)
+        self.is_stuck(("sure", same(ZERO, call("size", spot))), book)
+        self.is_stuck(("sure", same(suc(ZERO), suc(call("size", spot)))), book)
+        self.is_stuck(("sure", same(form("Pair", spot, ZERO), form("Pair", call("pick", spot, ZERO), ZERO))), book)
         self.is_stuck(("sure", same(form("Cons", spot, form("Nil")), form("Cons", call("pick", spot, ONE), form("Nil")))), book)
 
     def test_they_need_not_make_it_so(self):
@@ -302,6 +338,7 @@ class TestStuck(RunCase):
         spot = call("spot")
         self.ends_as(("sure", same(spot, spot)), "left", book)
         self.ends_as(("sure", same(suc(call("size", spot)), ZERO)), "right", book)
+        self.ends_as(("sure", same(form("Pair", spot, ZERO), form("Pair", call("pick", spot, ZERO), suc(ZERO)))), "right", book)
         self.ends_as(("at", ("fact", "plains"), spot), "plain", book)
         self.ends_as(("at", ("induct", "nat", A0, (((), (), P0), (("m",), ("h",), P0))), suc(call("size", spot))), "plain", book)
         self.ends_as(("give", ("into", "h", atom("rain"), P0), ("fact", "rains")), "plain", book)
@@ -384,6 +421,29 @@ class TestBounds(RunCase):
                 self.assertIsNotNone(raised(kind, ran, book, p), p)
             self.assertIsNotNone(raised(kind, witness, book, ("with", t, A0, P0)))
             self.assertEqual(ran(book, ("with", t, A0, P0)), ("with", t, A0, P0))
+
+    def test_a_step_that_would_need_reckoning_beyond_its_bounds(self):
+        book = Book(ROWS + [SLOW])
+        long = call("slow", number(12), ZERO)
+        rest = same(long, long)
+        both = ("both", ("reckon", SUM, P1), ("plain", long))
+        p = ("swap", ("reckon", SUM, P1), ("and", same(bound(0), ONE), rest), both)
+        self.assertEqual(looked(book, (), p), ("and", A1, rest))
+        self.assertIsNotNone(raised(TooLong, step, book, p))
+        p = ("swap", P1, ("and", same(call("add", ONE, ZERO), bound(0)), rest), both)
+        self.assertEqual(self.ends_as(p, "both", book), both)
+        induct = ("induct", "nat", ("and", same(bound(0), bound(0)), rest), (
+            ((), (), ("both", P0, ("plain", long))), (("m",), ("h",), ("both", ("plain", suc(M)), ("plain", long)))))
+        self.ends_as(("at", induct, TWO), "both", book)
+        looked(book, (), ("at", induct, call("add", ONE, ONE)))
+        self.assertIsNotNone(raised(TooLong, step, book, ("at", induct, call("add", ONE, ONE))))
+        p = ("at", ("reckon", ("all", "nat", same(bound(0), call("add", ZERO, bound(0)))), ("each", "n", "nat", ("plain", N))), long)
+        looked(book, (), p)
+        self.assertIsNotNone(raised(TooLong, step, book, p))
+        told = ("some", "nat", same(bound(0), call("add", ZERO, bound(0))))
+        p = ("take", ("reckon", told, ("with", long, same(bound(0), bound(0)), ("plain", long))), "n", "h", P0)
+        looked(book, (), p)
+        self.assertIsNotNone(raised(TooLong, step, book, p))
 
     def test_deep_reasons(self):
         p = P0

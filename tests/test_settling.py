@@ -15,12 +15,17 @@ from tacticwright.lore import Lore
 from tacticwright.reasons import facts_in, is_great_reason, reasons_of
 from tacticwright.settling import is_plain, settled
 from tacticwright.tactics import met
+from tacticwright.termworlds import least_values
 from tacticwright.worlds import checked, truth
 
 LORE = Lore(ROWS)
 X, Y, Z, P = free("x"), free("y"), free("z"), free("p")
 RAIN = atom("rain")
 NEAR = atom("near", X, Y)
+
+
+def no(A):
+    return ("if", A, FALSE)
 
 
 def goal(G, *more):
@@ -60,7 +65,16 @@ SO = [
     ("if", ("if", ("and", RAIN, NEAR), FALSE), ("or", ("if", RAIN, FALSE), ("if", NEAR, FALSE))),
     ("or", same(call("spot"), X), ("if", same(X, call("spot")), FALSE)),
 ]
+WET, DRY = atom("wet"), atom("dry")
+NONE = ("and", ("and", no(RAIN), no(WET)), ("and", no(DRY), no(same(X, Y))))
+EITHER = ("or", ("or", ("or", ("or", ("or", ("or", same(X, Y), same(X, Y)), DRY), WET), RAIN), same(X, Y)), DRY)
+# Facts put behind within others hide none of those that are still gone by.
+SO += [("if", NONE, no(EITHER)), ("if", NONE, ("if", EITHER, RAIN)),
+       ("if", NONE, no(("if", no(DRY), ("if", no(WET), ("if", no(RAIN), ("if", no(DRY), same(X, Y))))))),
+       ("if", NONE, ("if", RAIN, ("if", WET, ("if", DRY, ("if", same(X, Y), FALSE)))))]
 NOT_SO = [
+    ("if", NEAR, atom("far", X, Y)),
+    ("if", RAIN, ("if", DRY, WET)),
     FALSE,
     RAIN,
     same(X, Y),
@@ -189,6 +203,14 @@ class TestSettled(unittest.TestCase):
         self.has_world(goal(same(P, free("q")), ("thing", "settleaa", "item"), ("thing", "last", "place")))
         self.has_reason((THINGS + (("thing", "settleaa", "item"),), same(free("settleaa"), free("settleaa"))))
 
+    def test_things_called_like_functions_and_words(self):
+        things = (("thing", "f", "item"), ("thing", "spot", "item"), ("thing", "rain", "item"))
+        f, spot = free("f"), free("spot")
+        self.has_world((things, same(f, call("f", f))))
+        self.has_world((things, same(spot, call("spot"))))
+        self.has_world((things, ("or", RAIN, same(free("rain"), call("spot")))))
+        self.has_reason((things, ("if", same(f, spot), same(call("f", spot), call("f", f)))))
+
     def test_eight_unlike_values(self):
         G = joined("or", [same(chain(3, X), chain(2, X)), same(chain(3, X), chain(1, X)), same(chain(3, X), chain(3, Y)), same(X, Y)])
         self.has_world(goal(G))
@@ -209,6 +231,11 @@ class TestSettled(unittest.TestCase):
             last = "kind" + letter
         self.has_world(goal(("or", RAIN, same(X, Y))), Lore(rows))
         self.has_reason(goal(("if", RAIN, RAIN)), Lore(rows))
+
+    def test_the_least_values(self):
+        rows = [("open", "item"), ("kind", "nat", (("Zero", ()), ("Suc", ("nat",)))), ("kind", "box", (("Box", ("nat", "nat")), ("Item", ("item",)), ("In", ("box",)))),
+                ("kind", "pair", (("Pair", ("box", "nat")),)), ("kind", "last", (("A", ("pair", "pair")), ("B", ("pair",)), ("C", ()), ("D", ("item",))))]
+        self.assertEqual(least_values(Lore(rows)), {"item": 0, "nat": ("Zero", ()), "box": ("Item", (0,)), "pair": ("Pair", (("Item", (0,)), ("Zero", ()))), "last": ("C", ())})
 
     def test_just_one_of_both_for_drawn_goals(self):
         rng = random.Random(2202)
