@@ -57,13 +57,14 @@ def want_line(so, number):
         raise NoWords(number + 1)
 
 
-def rule_terms(paper, forms, others):
+def rule_terms(paper, first, forms, others):
     """The tuple of the terms in the lines behind a rule's first one, for these forms and so many other args."""
     terms = []
     while paper.has_line("|"):
         C, parts, more, t = at_line(paper.at, form_line_read, paper.line())
         fits = len(terms) < len(forms) and (C, parts) == (forms[len(terms)][0], len(forms[len(terms)][1]))
-        want_line(fits and more == others, paper.at)
+        # A line that is none of a form's makes the row wrong, as a term of another kind does.
+        want_line(fits and more == others, first)
         terms.append(t)
         paper.at += 1
     return tuple(terms)
@@ -76,7 +77,7 @@ def rule_put(paper, row):
     want_line(len(kinds) > 0 and function_is_right(paper.book, row), first)
     forms = paper.book.forms(kinds[0])
     want_line(forms is not None, first)
-    want_line(paper.book.put(row + (rule_terms(paper, forms, len(kinds) - 1),)), first)
+    want_line(paper.book.put(row + (rule_terms(paper, first, forms, len(kinds) - 1),)), first)
 
 
 def tactics_read(paper):

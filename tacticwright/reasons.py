@@ -164,7 +164,9 @@ def rebuilt(p, change):
     while pending:
         part, ready = pending.pop()
         inner = reasons_in(part)
-        if ready or len(inner) == 0:
+        if len(inner) == 0:
+            made.append(change(part))
+        elif ready:
             at = len(made) - len(inner)
             made[at:] = [change(with_reasons(part, made[at:]))]
         else:

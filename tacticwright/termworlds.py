@@ -13,7 +13,8 @@ def least_values(lore):
         elif row[0] == "kind":
             # A form with a part of its own kind makes no least value.
             sizes = [(1 + sum([counts[kind] for kind in kinds]), C, kinds) for C, kinds in row[2] if K not in kinds]
-            counts[K], C, kinds = min(sizes, key=lambda told: told[0])
+            many, C, kinds = min(sizes, key=lambda told: told[0])
+            counts[K] = many
             least[K] = (C, tuple([least[kind] for kind in kinds]))
     return least
 

@@ -165,13 +165,17 @@ class TestLines(PaperCase):
         self.refuses(n + 1, *HEAD, "rule f(nat) nat", "| Zero = Nil", "| Suc(x) = f(x)")
         self.refuses(n + 1, *HEAD, "rule f(nat) nat", "| Zero = Zero", "| Suc(x) = f(Suc(x))")
         self.refuses(n + 1, *HEAD, "rule f(nat) nat", "| Zero = Zero", "| Suc(x) = y")
-        # The lines of its forms.
+        # Lines of other forms, of more or fewer names, and one too many make no row either.
+        for line in ("| Suc = Zero", "| Suc(x) y = f(x)", "| Suc(x, y) = f(x)", "| Zero = Zero", "| Nil = Zero", "| None(x) = f(x)"):
+            self.refuses(n + 1, *HEAD, "rule f(nat) nat", "| Zero = Zero", line)
+            self.refuses(n + 1, *HEAD, "rule f(nat) nat", "| Zero = Zero", line, "open last")
+        self.refuses(n + 1, *HEAD, "rule f(nat) nat", "| Zero = Zero", "| Suc(x) = f(x)", "| Suc(x) = f(x)")
+        self.refuses(n + 1, *HEAD, "rule f(nat) nat", "| Suc(x) = f(x)", "| Zero = Zero")
+        # A line that is none by itself has its own place.
         for line in ("|Suc(x) = f(x)", "| Suc(x)= f(x)", "| Suc(x) = ", "| Suc (x) = f(x)", "| Suc() = Zero", "| suc(x) = f(x)", "|  Suc(x) = f(x)", "| Suc(x) = f(x) ", "| Suc(X) = Zero",
-                     "| Suc = Zero", "| Suc(x) y = f(x)", "| Suc(x, y) = f(x)", "| Zero = Zero", "| Nil = Zero", "| Suc(x)  = f(x)", "|", "| ", "| Suc(x) = false", "| Suc(x) : f(x)"):
+                     "| Suc(x)  = f(x)", "|", "| ", "| Suc(x) = false", "| Suc(x) : f(x)", "| Suc(x, x) = f(x)"):
             self.refuses(n + 3, *HEAD, "rule f(nat) nat", "| Zero = Zero", line)
             self.refuses(n + 3, *HEAD, "rule f(nat) nat", "| Zero = Zero", line, "open last")
-        self.refuses(n + 4, *HEAD, "rule f(nat) nat", "| Zero = Zero", "| Suc(x) = f(x)", "| Suc(x) = f(x)")
-        self.refuses(n + 2, *HEAD, "rule f(nat) nat", "| Suc(x) = f(x)", "| Zero = Zero")
         self.refuses(n + 3, *HEAD, "rule f(nat, nat) nat", "| Zero y = y", "| Suc(x) x = x")
 
 
