@@ -313,6 +313,64 @@ class TestRun(PaperCase):
         self.assertEqual(self.told("some x nat: rain()", ["with(slow(" + twelve + ", Zero))", "by(rains)"], "run", HEAD + slow, ROWS + [row]), " stuck")
 
 
+HALF = """kind nat = Zero Suc(nat)
+rule add(nat, nat) nat
+| Zero y = y
+| Suc(x) y = Suc(add(x, y))
+short twice(n nat) nat = add(n, n)
+claim later: all x nat: all y nat: add(x, Suc(y)) = Suc(add(x, y))
+  into(n)
+  induct(n, [ | , m | h])
+  then(into(k), plain())
+  into(k)
+  reckon()
+  turn(h, [k], on)
+  plain()
+run
+claim shift: all x nat: twice(Suc(x)) = Suc(Suc(twice(x)))
+  into(n)
+  reckon()
+  turn(later, [n, n], on)
+  plain()
+run
+claim half: all x nat: some y nat: (x = twice(y) or x = Suc(twice(y)))
+  into(n)
+  induct(n, [ | , m | h])
+  then(with(Zero), then(left(), plain()))
+  apart(h, [k, g])
+  apart(g, [a, b])
+  then(with(k), then(right(), then(turn(a, [], on), plain())))
+  then(with(Suc(k)), then(left(), then(turn(shift, [k], on), then(turn(b, [], on), plain()))))
+run
+claim which: all x nat: (some y nat: x = twice(y) or some y nat: x = Suc(twice(y)))
+  into(n)
+  have(h, some y nat: (n = twice(y) or n = Suc(twice(y))))
+  use(half, [n])
+  apart(h, [k, g])
+  apart(g, [a, b])
+  then(left(), then(with(k), by(a)))
+  then(right(), then(with(k), by(b)))
+run"""
+
+
+def numeral(k):
+    return "Suc(" * k + "Zero" + ")" * k
+
+
+class TestHalves(PaperCase):
+    """A paper from kinds to witnesses: each number's half, and whether it is even."""
+
+    def test_halves(self):
+        lines, wanted = [HALF], []
+        for k in (0, 1, 2, 3, 6, 7, 12, 25):
+            name = "abcdefghijklmnopqrstuvwxyz"[k]
+            lines += ["claim h" + name + name + ": some y nat: (%s = twice(y) or %s = Suc(twice(y)))" % (numeral(k), numeral(k)), "  use(half, [" + numeral(k) + "])", "run"]
+            lines += ["claim w" + name + name + ": (some y nat: %s = twice(y) or some y nat: %s = Suc(twice(y)))" % (numeral(k), numeral(k)), "  use(which, [" + numeral(k) + "])", "run"]
+            wanted += [numeral(k // 2), "right" if k % 2 else "left"]
+        told = answered(paper(*lines)).split("\n")
+        self.assertEqual([line.split(" ")[-1] for line in told], ["stands"] * 4 + wanted)
+
+
 class TestNoPaper(PaperCase):
 
     def test_no_text(self):
