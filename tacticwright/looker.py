@@ -42,18 +42,32 @@ def gone_on(at):
     return borne_out(at)
 
 
+def walked(around):
+    """The statement of the first of a list of looks, the only one at the beginning; what is wrong is refused as it is.
+
+    Where it is refused, the list holds the looks at the reasons around the fault, and at the one at fault last.
+    """
+    while True:
+        made = gone_on(around[-1])
+        if isinstance(made, Look):
+            around.append(made)
+        elif len(around) == 1:
+            return made
+        else:
+            around.pop()
+            around[-1].told.append(made)
+
+
 def looked(lore, context, reason, goals=None):
     """The statement that a reason, of anything, bears out; NoReason where it is none."""
     around = [Look(lore, context, reason, goals)]
-    while True:
-        try:
-            made = gone_on(around[-1])
-        except (NoReason, NoTerm, TooLong, TooGreat):
-            raise NoReason(tuple([len(at.told) for at in around[:-1]])) from None
-        if isinstance(made, Look):
-            around.append(made)
-        else:
-            around.pop()
-            if len(around) == 0:
-                return made
-            around[-1].told.append(made)
+    try:
+        return walked(around)
+    except (NoReason, NoTerm, TooLong, TooGreat):
+        raise NoReason(tuple([len(at.told) for at in around[:-1]])) from None
+
+
+def still_borne(lore, p):
+    """A closed reason into which right terms were put; refused where the looker would reckon beyond the bounds."""
+    walked([Look(lore, (), p, None)])
+    return p

@@ -8,10 +8,12 @@ from tacticwright.deciding import decided
 from tacticwright.errors import Stuck
 from tacticwright.errors import TooGreat
 from tacticwright.errors import TooLong
+from tacticwright.looker import still_borne
 from tacticwright.putting import put_in
 from tacticwright.putting import without_own_name
 from tacticwright.reasons import is_great_reason
 from tacticwright.reasons import reasons_in
+from tacticwright.reasons import reasons_of
 from tacticwright.reasons import with_reasons
 from tacticwright.reckoning import reckoned
 from tacticwright.statements import opened
@@ -36,11 +38,19 @@ def reckoned_form(lore, t):
 
 
 def told_as(lore, A, B, p):
-    """A reason of A, made of a reason p of a B that reckons to the same; refused where A goes beyond reckoning."""
+    """A reason of A, made of a reason p of a B that reckons to the same; refused where one goes beyond reckoning."""
     if alike(A, B):
         return p
     reckoned(lore, A)
+    reckoned(lore, B)
     return ("reckon", A, p)
+
+
+def terms_put_in(lore, p, terms, fillings):
+    """A reason with terms for things and reasons for facts; by the terms a reckon within may go beyond its bounds."""
+    made = put_in(p, terms, fillings)
+    has_reckon = any([part[0] == "reckon" for part in reasons_of(p)])
+    return still_borne(lore, made) if has_reckon and len(terms) > 0 else made
 
 
 def from_fact(lore, p):
@@ -59,7 +69,7 @@ def from_forms(lore, p):
     word, t, rows = p
     told, at = reckoned_form(lore, t)
     xs, h, q = rows[at]
-    return put_in(q, dict(zip(xs, told[2])), {h: ("reckon", ("same", t, told), ("plain", t))})
+    return terms_put_in(lore, q, dict(zip(xs, told[2])), {h: ("reckon", ("same", t, told), ("plain", t))})
 
 
 ALONE = {"fact": from_fact, "sure": from_sure, "forms": from_forms}
@@ -70,9 +80,9 @@ def give_out(lore, p, made):
     return put_in(q, {}, {h: p[2]})
 
 
-def each_out(made, t):
+def each_out(lore, made, t):
     word, x, K, q = made
-    return put_in(q, {x: t}, {})
+    return terms_put_in(lore, q, {x: t}, {})
 
 
 def induct_out(lore, made, t):
@@ -81,12 +91,12 @@ def induct_out(lore, made, t):
     xs, hs, q = rows[at]
     kinds = lore.forms(K)[at][1]
     again = [("at", made, part) for part, kind in zip(told[2], kinds) if kind == K]
-    come = put_in(q, dict(zip(xs, told[2])), dict(zip(hs, again)))
+    come = terms_put_in(lore, q, dict(zip(xs, told[2])), dict(zip(hs, again)))
     return told_as(lore, opened(A, t), opened(A, told), come)
 
 
 def at_out(lore, p, made):
-    return each_out(made, p[2]) if made[0] == "each" else induct_out(lore, made, p[2])
+    return each_out(lore, made, p[2]) if made[0] == "each" else induct_out(lore, made, p[2])
 
 
 def first_out(lore, p, made):
@@ -105,7 +115,7 @@ def cases_out(lore, p, made):
 
 def take_out(lore, p, made):
     word, t, A, q = made
-    return put_in(p[4], {p[2]: t}, {p[3]: q})
+    return terms_put_in(lore, p[4], {p[2]: t}, {p[3]: q})
 
 
 def swap_out(lore, p, made):
@@ -133,9 +143,7 @@ def give_inward(lore, p, A, made):
 
 
 def at_inward(lore, p, A, made):
-    told = opened(A[2], p[2])
-    reckoned(lore, told)
-    return ("reckon", told, ("at", made, p[2]))
+    return still_borne(lore, ("reckon", opened(A[2], p[2]), ("at", made, p[2])))
 
 
 def first_inward(lore, p, A, made):

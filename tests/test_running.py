@@ -445,6 +445,25 @@ class TestBounds(RunCase):
         looked(book, (), p)
         self.assertIsNotNone(raised(TooLong, step, book, p))
 
+    def test_a_term_put_into_a_reckon_within(self):
+        book = Book(ROWS + [SLOW, ("short", "nil", ("nat",), "nat", ZERO)])
+        long, great = call("slow", N, ZERO), call("twice", call("twice", call("twice", N)))
+        for t, k, kind in ((long, 12, TooLong), (great, 20, TooGreat)):
+            # Beyond the bounds goes what the reckon tells, or what stands within it alone.
+            for q in (("reckon", same(t, call("add", ZERO, t)), ("plain", t)), ("reckon", A0, ("plain", call("nil", t)))):
+                body = ("into", "g", A1, ("first", ("both", P0, q)))
+                some = ("with", number(k), same(bound(0), bound(0)), ("plain", number(k)))
+                later = ("into", "g", A1, ("first", ("both", P0, ("at", ("each", "n", "nat", q), free("m")))))
+                for p in (("at", ("each", "n", "nat", body), number(k)), ("take", some, "n", "h", body),
+                          ("forms", suc(number(k)), (((), "h", ("into", "g", A1, P0)), (("n",), "h", body))),
+                          ("at", ("induct", "nat", ("if", A1, A0), (((), (), ("into", "g", A1, P0)), (("n",), ("h",), body))), suc(number(k)))):
+                    self.assertEqual(looked(book, (), p), ("if", A1, A0))
+                    self.assertIsNotNone(raised(kind, step, book, p), p)
+                    self.assertIsNotNone(raised(kind, ran, book, p), p)
+                # Small numbers go, and what isn't put in yet is no fault.
+                self.ends_as(("at", ("each", "n", "nat", body), TWO), "into", book)
+                self.ends_as(("at", ("each", "m", "nat", later), TWO), "into", book)
+
     def test_deep_reasons(self):
         p = P0
         for turn in range(75):
