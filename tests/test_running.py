@@ -445,6 +445,17 @@ class TestBounds(RunCase):
         looked(book, (), p)
         self.assertIsNotNone(raised(TooLong, step, book, p))
 
+    def test_a_swap_whose_q_alone_goes_beyond_reckoning(self):
+        book = Book(ROWS + [SLOW])
+        half = call("slow", number(9), ZERO)
+        body = same(call("add", bound(0), half), call("add", bound(0), half))
+        p = ("swap", ("reckon", same(half, ZERO), P0), body, ("plain", call("add", half, half)))
+        self.assertEqual(looked(book, (), p), same(call("add", ZERO, half), call("add", ZERO, half)))
+        self.assertIsNotNone(raised(TooLong, step, book, p))
+        less = call("slow", number(3), ZERO)
+        body = same(call("add", bound(0), less), call("add", bound(0), less))
+        self.ends_as(("swap", ("reckon", same(less, ZERO), P0), body, ("plain", call("add", less, less))), "plain", book)
+
     def test_a_term_put_into_a_reckon_within(self):
         book = Book(ROWS + [SLOW, ("short", "nil", ("nat",), "nat", ZERO)])
         long, great = call("slow", N, ZERO), call("twice", call("twice", call("twice", N)))
